@@ -1,0 +1,1 @@
+"""Things in a row, put in order by marks of few figures."""
